@@ -1,0 +1,1 @@
+"""Flipstack: piles of cakes put in order by turning over their beginnings."""
