@@ -8,11 +8,21 @@ def what_lies_below(pile):
     return pile[1:] + [len(pile) + 1]
 
 
+def is_gap(cake, below, burnt):
+    if burnt:
+        return below != cake + 1
+    return abs(below - cake) != 1
+
+
+def count_gaps(pile, burnt):
+    return len([cake for cake, below in zip(pile, what_lies_below(pile)) if is_gap(cake, below, burnt)])
+
+
 def gaps(pile):
     check_pile(pile)
-    return len([cake for cake, below in zip(pile, what_lies_below(pile)) if abs(below - cake) != 1])
+    return count_gaps(pile, burnt=False)
 
 
 def burnt_gaps(pile):
     check_burnt_pile(pile)
-    return len([cake for cake, below in zip(pile, what_lies_below(pile)) if below != cake + 1])
+    return count_gaps(pile, burnt=True)

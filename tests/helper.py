@@ -1,6 +1,7 @@
 """Piles, and a second, plainer telling of the document, for all the tests."""
 
-from itertools import permutations, product
+from itertools import count, permutations, product
+from math import factorial
 
 FORTY_FIGURES = 10 ** 40 - 1
 
@@ -104,3 +105,49 @@ def told_behind(pile, turns, sign):
 
 def in_order(size):
     return list(range(1, size + 1))
+
+
+def how_many_piles(size, sign):
+    return factorial(size) * (1 if sign == 1 else 2 ** size)
+
+
+def all_lists_of_turns(size):
+    """Every list of turns, the shorter ones first, those as long as one another in the order of lists."""
+    for length in count():
+        for turns in product(range(1, size + 1), repeat=length):
+            yield list(turns)
+
+
+def told_first_plans(size, sign):
+    """The fewest plan of each pile of so many cakes, by trying every list of turns."""
+    plans = {}
+    for turns in all_lists_of_turns(size):
+        # A list of turns is a plan of just the pile that its turns, done from the last one up, make of the order.
+        plans.setdefault(tuple(told_behind(in_order(size), reversed(turns), sign)), turns)
+        if len(plans) == how_many_piles(size, sign):
+            return plans
+
+
+def told_first_ways(pile):
+    """The fewest way from a plain pile to each one of as many cakes, by trying every list of turns."""
+    ways = {}
+    for turns in all_lists_of_turns(len(pile)):
+        ways.setdefault(tuple(told_behind(pile, turns, 1)), turns)
+        if len(ways) == how_many_piles(len(pile), 1):
+            return ways
+
+
+def told_distances(goal, sign):
+    """How many turns each pile of as many cakes is away from the goal."""
+    distances = {tuple(goal): 0}
+    edge = [goal]
+    while edge:
+        further = []
+        for pile in edge:
+            for turn in range(1, len(pile) + 1):
+                other = told_turn(pile, turn, sign)
+                if tuple(other) not in distances:
+                    distances[tuple(other)] = distances[tuple(pile)] + 1
+                    further.append(other)
+        edge = further
+    return distances

@@ -93,6 +93,59 @@ class Language(unittest.TestCase):
                     self.assertEqual(len(node.targets), 1)
                 for node in nodes(path, ast.Constant):
                     self.assertNotIsInstance(node.value, (float, complex, bytes))
+                for node in nodes(path, ast.ListComp):
+                    self.assertEqual(len(node.generators), 1)
+                    self.assertLessEqual(len(node.generators[0].ifs), 1)
+
+    def test_l7_f_strings_hold_names_alone(self):
+        for path in FILES:
+            with self.subTest(file=path.name):
+                for node in nodes(path, ast.FormattedValue):
+                    self.assertIsInstance(node.value, ast.Name)
+                    self.assertIsNone(node.format_spec)
+                    self.assertIn(node.conversion, (-1, ord("r")))
+
+    def test_l15_no_local_is_called_like_a_class_or_an_import(self):
+        for path in FILES:
+            taken = {name.name for node in nodes(path, ast.ImportFrom) for name in node.names}
+            taken |= {node.name for node in nodes(path, ast.ClassDef)}
+            with self.subTest(file=path.name):
+                for node in nodes(path, ast.arg):
+                    self.assertNotIn(node.arg, taken)
+                for node in nodes(path, ast.Name):
+                    self.assertFalse(isinstance(node.ctx, ast.Store) and node.id in taken, node.id)
+
+    def test_l18_no_name_is_both_a_method_and_a_value(self):
+        methods, values = set(), set()
+        for path in FILES:
+            methods |= {row.name for kind in nodes(path, ast.ClassDef) for row in kind.body
+                        if isinstance(row, ast.FunctionDef)}
+            values |= {node.attr for node in nodes(path, ast.Attribute) if isinstance(node.ctx, ast.Store)}
+        self.assertEqual(methods & values, set())
+
+    def test_l19_errors_are_taken_by_their_own_names(self):
+        for path in FILES:
+            with self.subTest(file=path.name):
+                for node in nodes(path, ast.ExceptHandler):
+                    self.assertIsInstance(node.type, ast.Name)
+                    self.assertNotIn(node.type.id, ("Exception", "TypeError"))
+
+    def test_l20_is_stands_beside_none_true_and_false(self):
+        for path in FILES:
+            with self.subTest(file=path.name):
+                for node in nodes(path, ast.Compare):
+                    for sign, right in zip(node.ops, node.comparators):
+                        if isinstance(sign, (ast.Is, ast.IsNot)):
+                            self.assertIsInstance(right, ast.Constant)
+                            self.assertIn(right.value, (None, True, False))
+
+    def test_l21_no_annotations(self):
+        for path in FILES:
+            with self.subTest(file=path.name):
+                for node in nodes(path, ast.arg):
+                    self.assertIsNone(node.annotation)
+                for node in nodes(path, ast.FunctionDef):
+                    self.assertIsNone(node.returns)
 
     def test_l4_l5_functions_and_classes(self):
         for path in FILES:
